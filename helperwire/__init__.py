@@ -1,0 +1,1 @@
+"""Helperwire: an editor and its helper, on a wire."""
