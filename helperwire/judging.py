@@ -2,9 +2,7 @@
 
 from helperwire.asks import helper_answer
 from helperwire.errors import BadEdit
-from helperwire.sheets import edited
-
-MOST_FILES = 4
+from helperwire.openfiles import MOST_FILES, OpenFile
 
 
 def judge(log):
@@ -20,24 +18,22 @@ def judge(log):
 class KnownAsk:
     """An ask that a helper may still answer.
 
-    `past` is the list of all (number, sheet) of its file in the order in
-    which the file had them, and `since` the item at which it was asked. The
-    list is the file's own till that is closed, so it grows with the file;
-    a file that is opened again has another list.
+    `home` is the file as it was open when it was asked, so it changes with
+    the file till that is closed; a file that is opened again is another one.
+    `since` is the number that the file had then.
     """
 
-    def __init__(self, want, past):
+    def __init__(self, want, home):
         self.want = want
-        self.past = past
-        self.since = len(past) - 1
+        self.home = home
+        self.since = home.number
         self.off = False
 
     def can_tell(self, number, told):
         """Whether a helper can tell this of the sheet with this number."""
-        for had, sheet in self.past[self.since:]:
-            if had == number:
-                return helper_answer(sheet, self.want) == told
-        return False
+        if not self.since <= number <= self.home.number:
+            return False
+        return helper_answer(self.home.sheet_at(number), self.want) == told
 
 
 class Court:
@@ -49,7 +45,7 @@ class Court:
 
     def __init__(self):
         self.birth = 1
-        self.pasts = {}
+        self.open_files = {}
         self.known = {}
 
     def lets_editor(self, letter):
@@ -73,42 +69,41 @@ class Court:
     def start(self, birth):
         """Another helper begins, which has heard nothing yet."""
         self.birth = birth
-        self.pasts = {}
+        self.open_files = {}
         self.known = {}
 
     def lets_open(self, file, number, sheet):
         """A file is opened; its number may be any."""
-        if file in self.pasts or len(self.pasts) == MOST_FILES:
+        if file in self.open_files or len(self.open_files) == MOST_FILES:
             return False
-        self.pasts[file] = [(number, sheet)]
+        self.open_files[file] = OpenFile(number, sheet)
         return True
 
     def lets_change(self, file, number, edits):
         """A file is changed."""
-        if file not in self.pasts:
+        if file not in self.open_files:
             return False
-        had, sheet = self.pasts[file][-1]
-        if number != had + 1:
+        home = self.open_files[file]
+        if number != home.number + 1:
             return False
         try:
-            after = edited(sheet, edits)
+            home.change(edits)
         except BadEdit:
             return False
-        self.pasts[file].append((number, after))
         return True
 
     def lets_close(self, file):
         """A file is closed; its asks stay known, for their answers may be under way."""
-        if file not in self.pasts:
+        if file not in self.open_files:
             return False
-        del self.pasts[file]
+        del self.open_files[file]
         return True
 
     def lets_ask(self, number, file, want):
         """An ask is asked."""
-        if file not in self.pasts or number in self.known:
+        if file not in self.open_files or number in self.known:
             return False
-        self.known[number] = KnownAsk(want, self.pasts[file])
+        self.known[number] = KnownAsk(want, self.open_files[file])
         return True
 
     def lets_off(self, number):

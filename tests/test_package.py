@@ -1,4 +1,4 @@
-"""The interface of what has landed, and the rules of LANGUAGE.md that a short look at the code can see.
+"""The interface, and the rules of LANGUAGE.md that a short look at the code can see.
 
 Point 1 is tested here as far as it bars clocks, chance and files: the package imports nothing but itself.
 """
@@ -10,7 +10,7 @@ import re
 import unittest
 from pathlib import Path
 
-from helperwire import asks, judging, sheets
+from helperwire import asks, editor, helper, judging, plays, sheets, wire
 
 FOLDER = Path(__file__).resolve().parent.parent / "helperwire"
 FILES = sorted(FOLDER.glob("*.py"))
@@ -67,10 +67,24 @@ class Interface(unittest.TestCase):
         wanted = ((sheets, "number_of", "sheet place"), (sheets, "place_of", "sheet number"),
                   (sheets, "edited", "sheet edits"), (sheets, "together", "sheet edits"),
                   (sheets, "back", "sheet edits"), (sheets, "moved", "sheet edits place"),
-                  (asks, "answer_of", "sheet want"), (judging, "judge", "log"))
+                  (asks, "answer_of", "sheet want"), (judging, "judge", "log"), (plays, "played", "steps"),
+                  (plays, "written", "steps"), (plays, "read", "text"))
         for module, name, arguments in wanted:
             parameters = inspect.signature(getattr(module, name)).parameters
             self.assertEqual(" ".join(parameters), arguments, name)
+
+    def test_methods_stand_in_their_classes(self):
+        wanted = ((editor.Editor, "take_up file sheet, edit file edits, close file, call_off number, begun, take number, "
+                                  "ask file want, hear letter, fallen, files, shown, along number, __init__"),
+                  (helper.Helper, "__init__ birth, hear letter, waits, work number"),
+                  (wire.Wire, "do deed, carry, bring, work at, fall, anew, settle, files, shown, told, along number, "
+                              "__init__"))
+        for owner, methods in wanted:
+            for method in methods.split(", "):
+                name, *arguments = method.split(" ")
+                self.assertIn(name, vars(owner))
+                parameters = inspect.signature(vars(owner)[name]).parameters
+                self.assertEqual(list(parameters), ["self", *arguments], name)
 
 
 class Language(unittest.TestCase):
@@ -145,6 +159,26 @@ class Language(unittest.TestCase):
         listed = set("""take_up edit close call_off begun take ask hear fallen files shown along waits work do carry
         bring fall anew settle told""".split())
         self.assertEqual(attributes & (methods | listed), set())
+
+    def test_l18_attributes_are_assigned_through_local_names(self):
+        for path, node in nodes(ast.Attribute):
+            if isinstance(node.ctx, ast.Store):
+                self.assertIsInstance(node.value, ast.Name, (path.name, node.lineno))
+
+    def test_l18_attributes_that_are_read_are_assigned(self):
+        assigned = {node.attr for path, node in nodes(ast.Attribute) if isinstance(node.ctx, ast.Store)}
+        for path, node in nodes(ast.Attribute):
+            self.assertIn(node.attr, assigned | METHODS | own_names(), (path.name, node.lineno))
+
+    def test_l16_no_two_files_import_from_each_other(self):
+        above = {path.stem: set() for path in FILES}
+        for path, node in nodes(ast.ImportFrom):
+            above[path.stem].add(node.module.split(".")[1])
+        while above:
+            free = [name for name in above if not above[name] & set(above)]
+            self.assertNotEqual(free, [], above)
+            for name in free:
+                del above[name]
 
     def test_l20_is_only_with_none_true_and_false(self):
         for path, node in nodes(ast.Compare):
